@@ -1,0 +1,1 @@
+"""Groupings: things in groups, finer and coarser, met and joined, numbered, and how many can stay."""
