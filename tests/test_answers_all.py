@@ -1,4 +1,4 @@
-"""Points 2, 4 and 6: each answer there could be of few things, beside the point's words taken one by one."""
+"""Points 2, 4 and 6: all answers with small fields about few things, beside the points' words taken one by one."""
 
 import itertools
 import unittest
@@ -112,23 +112,22 @@ class EachAnswerTest(unittest.TestCase):
             ends = range(-1, many + 1)
             prices = [list(told) for k in range(many + 1) for told in itertools.product(ends, repeat=k)]
             rows = [list(told) for k in range(3) for told in itertools.product(itertools.product(ends, ends), repeat=k)]
-            rows = rows if many < 2 else [row for row in rows if all(0 <= a < 2 and 0 <= b < 2 for a, b in row)]
             for one, other in all_couples(many):
                 for pairs, mine, theirs in itertools.product(rows, prices, prices):
                     wanted = is_stay(pairs, mine, theirs, one, other)
                     self.compare(Stay(pairs, mine, theirs), wanted, one, other)
 
-    def test_each_stay_of_three_with_rising_pairs(self):
+    def test_each_stay_of_three_things_whose_pairs_rise_and_whose_prices_are_few(self):
         for one, other in all_couples(3):
             counts = itertools.product(range(len(one)), range(len(other)))
-            prices = itertools.product(range(3), repeat=len(one) + len(other))
-            for pairs, told in itertools.product(all_parts(counts)[:40], prices):
+            prices = itertools.product(range(4), repeat=len(one) + len(other))
+            few = [told for told in prices if sum(told) <= 4]
+            for pairs, told in itertools.product(all_parts(counts), few):
                 mine, theirs = list(told[:len(one)]), list(told[len(one):])
-                if sum(told) <= 3:
-                    wanted = is_stay(pairs, mine, theirs, one, other)
-                    self.compare(Stay(pairs, mine, theirs), wanted, one, other)
-                    if wanted:
-                        self.assertEqual(sum(told), most_that_stay(one, other))
+                wanted = is_stay(pairs, mine, theirs, one, other)
+                self.compare(Stay(pairs, mine, theirs), wanted, one, other)
+                if wanted:
+                    self.assertEqual(sum(told), most_that_stay(one, other))
 
 
 if __name__ == "__main__":
