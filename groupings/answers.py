@@ -1,6 +1,6 @@
 """What is told of two groupings: answers that say of themselves whether they are right."""
 
-from groupings.groups import all_counted, all_things, in_common, is_counted, is_whole, rises, together
+from groupings.groups import all_counted, how_many_things, in_common, is_counted, is_whole, rises, together
 
 
 class Answer:
@@ -29,7 +29,7 @@ class Torn(Answer):
 
     def shows(self, one, other):
         """Whether the two things are in their order, together in the one and not in the other."""
-        if not all_counted([self.first, self.second], len(all_things(one))) or self.first >= self.second:
+        if not all_counted([self.first, self.second], how_many_things(one)) or self.first >= self.second:
             return False
         return together(one, self.first, self.second) and not together(other, self.first, self.second)
 
@@ -43,7 +43,7 @@ class Chain(Answer):
     def shows(self, one, other, begin, end):
         """Whether the things lead from begin to end, no thing twice."""
         things = self.things
-        if not all_counted(things, len(all_things(one))) or len(set(things)) != len(things):
+        if not all_counted(things, how_many_things(one)) or len(set(things)) != len(things):
             return False
         # Slices, since a chain without things has neither a first nor a last one.
         if things[:1] != [begin] or things[-1:] != [end]:
@@ -60,7 +60,7 @@ class Side(Answer):
     def shows(self, one, other, begin, end):
         """Whether the things part begin from end, and each group is among them whole or not at all."""
         things = self.things
-        if not all_counted(things, len(all_things(one))) or not rises(things):
+        if not all_counted(things, how_many_things(one)) or not rises(things):
             return False
         if begin not in things or end in things:
             return False

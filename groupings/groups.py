@@ -29,14 +29,25 @@ def all_things(grouping):
     return [thing for group in grouping for thing in group]
 
 
+def how_many_things(grouping):
+    """How many things a grouping has."""
+    return sum(len(group) for group in grouping)
+
+
+def is_short_list(value):
+    """Whether something of any kind is a list that is no longer than there can be things."""
+    return isinstance(value, list) and len(value) <= MOST_THINGS
+
+
 def is_group(value):
     """Whether something of any kind can be a group of a grouping."""
-    return all_counted(value, MOST_THINGS) and len(value) > 0 and rises(value)
+    return is_short_list(value) and len(value) > 0 and all_counted(value, MOST_THINGS) and rises(value)
 
 
 def is_grouping(value):
     """Whether something of any kind is a grouping."""
-    if not isinstance(value, list) or not all(is_group(group) for group in value):
+    # Asked first, so that a list that is far too long is told at once.
+    if not is_short_list(value) or not all(is_group(group) for group in value):
         return False
     things = sorted(all_things(value))
     # No group has a thing from 60 on, so things that are 0, 1, 2 and so on are at most 60.
@@ -49,6 +60,21 @@ def group_of(grouping, thing):
         if thing in group:
             return count
     return None
+
+
+def homes_of(grouping):
+    """For each thing, in turn, the count of the group that has it."""
+    return [group_of(grouping, thing) for thing in range(how_many_things(grouping))]
+
+
+def grouped_by(marks):
+    """The grouping of as many things as there are marks, in which things are together if their marks are equal."""
+    groups = {}
+    for thing, mark in enumerate(marks):
+        if mark not in groups:
+            groups[mark] = []
+        groups[mark].append(thing)
+    return list(groups.values())
 
 
 def together(grouping, first, second):

@@ -4,7 +4,7 @@ import itertools
 import unittest
 
 from groupings.answers import Chain, Side, Stay, Torn, Within
-from tests.listing import all_couples, all_parts
+from tests.listing import all_couples, all_parts, most_that_stay
 
 
 def in_one_group(grouping, *things):
@@ -34,15 +34,6 @@ def is_side(things, one, other, begin, end):
     if list(things) != sorted(here) or begin not in here or end in here or not here <= set(sum(one, [])):
         return False
     return all(set(group) <= here or not set(group) & here for group in one + other)
-
-
-def most_that_stay(one, other):
-    if len(one) > len(other):
-        return most_that_stay(other, one)
-    return max(
-        sum(len(set(group) & set(other[at])) for group, at in zip(one, order))
-        for order in itertools.permutations(range(len(other)), len(one))
-    )
 
 
 def is_stay(pairs, mine, theirs, one, other):

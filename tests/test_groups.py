@@ -8,6 +8,9 @@ from groupings.groups import (
     all_counted,
     all_things,
     group_of,
+    grouped_by,
+    homes_of,
+    how_many_things,
     in_common,
     is_counted,
     is_group,
@@ -17,21 +20,7 @@ from groupings.groups import (
     together,
 )
 from tests.listing import all_groupings
-
-
-class Refuser:
-    """Something that can be neither compared nor counted nor gone through."""
-
-    __hash__ = None
-
-    def refuse(self, *told):
-        raise RuntimeError("asked")
-
-    __eq__ = __lt__ = __le__ = __gt__ = __ge__ = __len__ = __iter__ = __bool__ = __index__ = __contains__ = refuse
-
-
-NO_NUMBERS = (True, False, None, 0.0, 1.0, float("nan"), 0j, "0", "", b"0", (), (0,), [], [0], {}, {0: 0}, set(), {0},
-              object(), Refuser(), int, len)
+from tests.wrong import NO_NUMBERS, Refuser
 
 
 class IsGroupingTest(unittest.TestCase):
@@ -140,6 +129,8 @@ class IsGroupingTest(unittest.TestCase):
 
     def test_a_long_list_said_often(self):
         self.assert_none([[0] * 100000] * 100000)
+        self.assert_none([list(range(60))] * 10 ** 7)
+        self.assert_none([[0] * 10 ** 7])
 
     def test_just_the_groupings_among_all_lists_of_few_things(self):
         wanted = all_groupings(3)
@@ -208,6 +199,22 @@ class ThingsTest(unittest.TestCase):
         self.assertIsNone(group_of(grouping, 5))
         self.assertIsNone(group_of(grouping, -1))
         self.assertIsNone(group_of([], 0))
+
+    def test_how_many_things(self):
+        self.assertEqual(how_many_things([]), 0)
+        self.assertEqual(how_many_things([[0, 2], [1]]), 3)
+        self.assertEqual(how_many_things([[thing] for thing in range(60)]), 60)
+
+    def test_homes_of_things(self):
+        self.assertEqual(homes_of([]), [])
+        self.assertEqual(homes_of([[0, 3], [1], [2, 4]]), [0, 1, 2, 0, 2])
+
+    def test_grouped_by_marks(self):
+        self.assertEqual(grouped_by([]), [])
+        self.assertEqual(grouped_by([7, 3, 7, (1, 2), 3]), [[0, 2], [1, 4], [3]])
+        for many in range(6):
+            for grouping in all_groupings(many):
+                self.assertEqual(grouped_by(homes_of(grouping)), grouping)
 
     def test_together_if_one_group_has_both(self):
         grouping = [[0, 3], [1], [2, 4]]

@@ -18,6 +18,14 @@ BARRED_WORDS = (
     r"|NamedTuple|TypedDict|TYPE_CHECKING|abstractmethod)\b|dataclass|overload|contextmanager"
 )
 BARRED_STATEMENTS = (ast.Global, ast.AsyncFunctionDef, ast.AsyncFor, ast.AsyncWith, ast.Await, ast.Import, ast.Div)
+METHODS = set(
+    "append clear copy count endswith extend find get index insert items join keys pop remove replace reverse setdefault"
+    " split startswith strip update values add discard".split()
+)
+BARRED_NAMES = set(
+    "register mro elements open input version_info with_traceback add_note breakpoint builtins compile delattr dir eval"
+    " exec exit gc getattr globals hasattr help id importlib locals os quit setattr super type vars sys".split()
+)
 
 
 def named(tree):
@@ -98,6 +106,55 @@ class LanguageTest(unittest.TestCase):
                     self.assertFalse(node.id.startswith("_"))
                 if isinstance(node, ast.Constant):
                     self.assertNotIsInstance(node.value, (float, complex))
+
+    def test_module_level_has_only_what_is_defined(self):
+        for file, tree in self.trees():
+            for row in tree.body:
+                self.assertIsInstance(row, (ast.ImportFrom, ast.FunctionDef, ast.ClassDef, ast.Assign, ast.Expr))
+                if isinstance(row, (ast.Assign, ast.Expr)):
+                    self.assertIsInstance(row.value, ast.Constant)
+
+    def test_own_methods_and_attributes_have_names_of_their_own(self):
+        nodes = [node for file, tree in self.trees() for node in ast.walk(tree)]
+        bodies = [part for node in nodes if isinstance(node, ast.ClassDef) for part in node.body]
+        methods = {part.name for part in bodies if isinstance(part, ast.FunctionDef)} - {"__init__"}
+        found = [node for node in nodes if isinstance(node, ast.Attribute)]
+        attributes = {node.attr for node in found if isinstance(node.ctx, ast.Store)}
+        self.assertEqual(methods & attributes, set())
+        self.assertEqual({node.attr for node in found} - attributes - methods - METHODS, set())
+        for taken in (str, int, list, dict, tuple, bytes, set, BaseException):
+            self.assertEqual((methods | attributes) & set(dir(taken)), set())
+
+    def test_barred_names(self):
+        for file, tree in self.trees():
+            for node in ast.walk(tree):
+                for name in (getattr(node, "id", None), getattr(node, "attr", None), getattr(node, "arg", None),
+                             getattr(node, "name", None)):
+                    if name is not None and name != "__init__":
+                        self.assertNotIn(name, BARRED_NAMES)
+                        self.assertRegex(name, r"^[A-Za-z][A-Za-z0-9_]*$")
+
+    def test_no_powers_decorators_or_signs_in_strings(self):
+        for file, tree in self.trees():
+            for node in ast.walk(tree):
+                self.assertNotIsInstance(node, (ast.Pow, ast.Try, ast.Starred, ast.NamedExpr))
+                self.assertEqual(getattr(node, "decorator_list", []), [])
+                if isinstance(node, ast.Constant) and isinstance(node.value, str):
+                    self.assertNotIn("%", node.value)
+                if isinstance(node, ast.Compare) and any(isinstance(sign, (ast.Is, ast.IsNot)) for sign in node.ops):
+                    self.assertIn(node.comparators[0].value, (None, True, False))
+
+    def test_no_loop_changes_what_it_goes_through(self):
+        for file, tree in self.trees():
+            for loop in ast.walk(tree):
+                if isinstance(loop, ast.For):
+                    gone_through = {ast.unparse(node) for node in ast.walk(loop.iter)
+                                    if isinstance(node, (ast.Name, ast.Attribute))} - BUILTINS - {"self"}
+                    for node in [part for row in loop.body for part in ast.walk(row)]:
+                        if isinstance(node, ast.Subscript) and isinstance(node.ctx, ast.Store):
+                            self.assertNotIn(ast.unparse(node.value), gone_through, file.name)
+                        if isinstance(node, ast.Attribute) and node.attr in METHODS - {"index", "count", "get"}:
+                            self.assertNotIn(ast.unparse(node.value), gone_through, file.name)
 
 
 if __name__ == "__main__":
